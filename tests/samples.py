@@ -1,0 +1,178 @@
+"""Nets, values and plain reckonings that the tests share."""
+
+import copy
+import itertools
+import random
+
+from markshome.nets import Net
+
+FORK_LINES = [("ac", "a", "c"), ("ah", "a", "h"), ("bc", "b", "c"), ("bh", "b", "h"), ("ca", "c", "a"),
+              ("cb", "c", "b")]
+
+# Values of every kind that a judge may be given, none of them a list of names.
+KINDS = [None, True, False, 0, 1, -1, 10 ** 59, "", "a", "A", "1", "a b", "\n", (), ("a",), {}, {"a": 1},
+         {"a": ["x"]}, {1: {2: []}}, [None], [True], [0], [1], [[]], [()], [{}], [{"a": "x"}], [["a"], {}],
+         [[[[[[[["a"]]]]]]]], ([], []), ([], [], []), (None, None), ("x", "a"), [("x", "a", "h")]]
+
+
+def fork():
+    """Three houses of strength 2."""
+    return Net("h", ["a", "b", "c"], FORK_LINES)
+
+
+def mixed():
+    """Loops at a house and at home, lines out of home, lines with equal ends, and a house without lines."""
+    lines = [("a1", "a", "h"), ("a2", "a", "h"), ("ab", "a", "b"), ("aa", "a", "a"), ("bh", "b", "h"),
+             ("ba", "b", "a"), ("hh", "h", "h"), ("ha", "h", "a"), ("hb", "h", "b"), ("bd", "b", "d")]
+    return Net("h", ["d", "a", "b"], lines)
+
+
+def alone():
+    """Home alone, with loops."""
+    return Net("h", [], [("l2", "h", "h"), ("l1", "h", "h")])
+
+
+def chain(many):
+    """So many houses, home included, in a row that leads home."""
+    names = ["h"] + [f"n{k:02}" for k in range(1, many)]
+    lines = [(f"l{k:02}", names[k], names[k - 1]) for k in range(1, many)]
+    return Net("h", names[1:], lines)
+
+
+def random_net(seed, most_others=5, most_lines=12):
+    """A net of at most so many houses and lines, with loops and lines out of home."""
+    chance = random.Random(seed)
+    others = [f"x{k}" for k in range(chance.randint(0, most_others))]
+    houses = ["h"] + others
+    ends = [(chance.choice(others or houses) if chance.random() < 0.9 else "h", chance.choice(houses))
+            for _ in range(chance.randint(0, most_lines))]
+    names = [f"l{k}" for k in range(len(ends))]
+    chance.shuffle(names)
+    return Net("h", others, [(name, tail, head) for name, (tail, head) in zip(names, ends)])
+
+
+def large_net(seed):
+    """A net of 12 houses and 30 lines."""
+    chance = random.Random(seed)
+    others = [f"x{k}" for k in range(11)]
+    lines = [(f"l{k}", others[k % 11], chance.choice(["h"] + others)) for k in range(30)]
+    return Net("h", others, lines)
+
+
+def remade(net):
+    """An equal net whose parts were given in another order."""
+    return Net(net.home, tuple(reversed(net.others)), tuple(reversed(net.lines)))
+
+
+def plain_lots(net):
+    """All lots, by going through the choices of a yes or no for each house."""
+    found = [[house for house, taken in zip(net.others, choice) if taken]
+             for choice in itertools.product((False, True), repeat=len(net.others))]
+    return sorted([lot for lot in found if lot], key=lambda lot: (len(lot), lot))
+
+
+def plain_out(net, lot, broken=()):
+    """The lines out of a lot that are not broken."""
+    return [name for name, tail, head in net.lines if tail in lot and head not in lot and name not in broken]
+
+
+def plain_least_lots(net, house, broken=()):
+    """The least lots of the house, by going through all lots."""
+    lots = [lot for lot in plain_lots(net) if house in lot]
+    least = min(len(plain_out(net, lot, broken)) for lot in lots)
+    return [lot for lot in lots if len(plain_out(net, lot, broken)) == least]
+
+
+def plain_strength(net):
+    """The strength, by going through all lots."""
+    return min((len(plain_out(net, lot)) for lot in plain_lots(net)), default=None)
+
+
+def plain_ways(net, house, broken=()):
+    """Every way from the house, by trying every line at every house."""
+    found = []
+    under_way = [([], [house])]
+    while under_way:
+        way, met = under_way.pop()
+        if met[-1] == net.home:
+            found.append(way)
+            continue
+        for name, tail, head in net.lines:
+            if tail == met[-1] and head not in met and name not in broken:
+                under_way.append((way + [name], met + [head]))
+    return sorted(found)
+
+
+def plain_trees(net):
+    """Every tree, by trying every list of as many lines as there are houses but home."""
+    found = []
+    for rows in itertools.combinations(net.lines, len(net.others)):
+        ahead = {tail: head for _, tail, head in rows}
+        if sorted(ahead) == net.others and all(plain_arrives(net, ahead, house) for house in net.others):
+            found.append(sorted(row[0] for row in rows))
+    return sorted(found)
+
+
+def plain_arrives(net, ahead, house):
+    """True if the steps from house to house come home."""
+    for _ in range(len(net.others) + 1):
+        if house == net.home:
+            return True
+        house = ahead[house]
+    return False
+
+
+def parts(value):
+    """All lists and dicts in a value, at every level."""
+    found = []
+    if isinstance(value, (list, dict)):
+        found.append(value)
+    inner = list(value.values()) if isinstance(value, dict) else value
+    if isinstance(value, (list, tuple, dict)):
+        for item in inner:
+            found.extend(parts(item))
+    return found
+
+
+def spoil(value):
+    """Change every list and dict in a value."""
+    for part in parts(value):
+        if isinstance(part, list):
+            part.append("spoilt")
+            part.reverse()
+        else:
+            part["spoilt"] = 1
+
+
+def raised(call, *arguments, **more):
+    """The error that a call raises as a tuple of its class's name and its fields, or None."""
+    try:
+        call(*arguments, **more)
+    except ValueError as error:
+        return (type(error).__name__, *vars(error).values())
+    return None
+
+
+def unharmed(test, call, *arguments, **more):
+    """The result of a call, which must leave its arguments as they are and give a new and equal result each time."""
+    before = copy.deepcopy([plain(value) for value in [*arguments, *more.values()]])
+    result = call(*arguments, **more)
+    told = copy.deepcopy(plain(result))
+    given = [id(part) for value in [*arguments, *more.values()] for part in parts(value)]
+    here = [id(part) for part in parts(result)]
+    test.assertEqual(len(here), len(set(here)), "one list stands at two places")
+    test.assertFalse(set(here) & set(given), "a list that was passed in is returned")
+    again = call(*arguments, **more)
+    test.assertEqual(plain(again), told)
+    test.assertFalse(set(here) & set(id(part) for part in parts(again)), "a list is returned twice")
+    spoil(result)
+    test.assertEqual(plain(call(*arguments, **more)), told)
+    test.assertEqual([plain(value) for value in [*arguments, *more.values()]], before)
+    return again
+
+
+def plain(value):
+    """A net as its parts, and every other value as it is."""
+    if isinstance(value, Net):
+        return (value.home, value.houses, value.lines)
+    return value
