@@ -1,4 +1,4 @@
-"""The checks of arguments that several files share. Each one raises its error or does nothing."""
+"""The checks of arguments that several files share. A check raises its error or does nothing."""
 
 from markshome.errors import BadLot, BadName, Duplicate, OutOfRange, TooMany, UnknownHouse, UnknownLine
 from markshome.names import MOST_LOT_HOUSES, MOST_TREES, is_name
@@ -11,10 +11,20 @@ def check_names(texts):
             raise BadName(text)
 
 
+def is_number(value):
+    """True if the value is an integer, which True and False are not."""
+    return isinstance(value, int) and not isinstance(value, bool)
+
+
+def check_range(what, value, least, most):
+    """Raise OutOfRange for an integer that is less than the least or more than the most."""
+    if not least <= value <= most:
+        raise OutOfRange(what, value)
+
+
 def check_count(count):
     """Raise OutOfRange for a number of trees, ways or lines outside 0 to 4."""
-    if not 0 <= count <= MOST_TREES:
-        raise OutOfRange("count", count)
+    check_range("count", count, 0, MOST_TREES)
 
 
 def check_many(what, many, limit):

@@ -1,8 +1,8 @@
 """Trees that lead home, and groves: lists of trees without a common line."""
 
-from markshome.checks import check_houses
+from markshome.checks import check_houses, check_many
 from markshome.errors import BadTree
-from markshome.names import ascending
+from markshome.names import MOST_TREES, ascending
 
 
 def leads_home(net, ahead, house):
@@ -42,6 +42,14 @@ def check_tree(net, tree):
     """Raise BadTree for a list that is no tree."""
     if not is_tree(net, tree):
         raise BadTree(0)
+
+
+def check_grove(net, grove):
+    """Raise TooMany for a list of too many trees, then BadTree for the first list that makes it no grove."""
+    check_many("trees", len(grove), MOST_TREES)
+    index = first_bad_tree(net, grove)
+    if index is not None:
+        raise BadTree(index)
 
 
 def line_from(net, tree, house):

@@ -5,6 +5,7 @@ import itertools
 import random
 
 from markshome.nets import Net
+from markshome.tables import Table
 
 FORK_LINES = [("ac", "a", "c"), ("ah", "a", "h"), ("bc", "b", "c"), ("bh", "b", "h"), ("ca", "c", "a"),
               ("cb", "c", "b")]
@@ -59,6 +60,19 @@ def large_net(seed):
     return Net("h", others, lines)
 
 
+def strong_net(seed, others, count, extra=0):
+    """A net that holds so many trees without a common line, and so many more lines by chance."""
+    chance = random.Random(seed)
+    names = [f"x{k}" for k in range(others)]
+    ends = [(chance.choice(["h"] + names), chance.choice(["h"] + names)) for _ in range(extra)]
+    for _ in range(count):
+        order = chance.sample(names, others)
+        # Few lines lead home, so that trees come into each other's way.
+        ends += [(house, chance.choice(order[:place] or ["h"])) for place, house in enumerate(order)]
+    chance.shuffle(ends)
+    return Net("h", names, [(f"l{k}", tail, head) for k, (tail, head) in enumerate(ends)])
+
+
 def remade(net):
     """An equal net whose parts were given in another order."""
     return Net(net.home, tuple(reversed(net.others)), tuple(reversed(net.lines)))
@@ -111,6 +125,48 @@ def plain_trees(net):
         if sorted(ahead) == net.others and all(plain_arrives(net, ahead, house) for house in net.others):
             found.append(sorted(row[0] for row in rows))
     return sorted(found)
+
+
+def plain_why(net, count, log, line):
+    """The reason why a line may not be taken behind a right log, with its lot, by going through all lots."""
+    if len(log) == count * len(net.others):
+        return ("whole", None)
+    index = len(log) // len(net.others)
+    taken = [name for _, name in log]
+    ends = {name: (tail, head) for name, tail, head in net.lines}
+    inside = [net.home] + [ends[name][0] for at, name in log if at == index]
+    if line in taken:
+        return ("taken", None)
+    if ends[line][0] in inside:
+        return ("tail", None)
+    if ends[line][1] not in inside:
+        return ("head", None)
+    rest = count - 1 - index
+    if all(len(plain_out(net, lot, taken + [line])) >= rest for lot in plain_lots(net)):
+        return ("free", None)
+    tight = [lot for lot in plain_tight(net, count, log) if ends[line][0] in lot and ends[line][1] not in lot]
+    return ("lot", min(tight, key=len))
+
+
+def plain_tight(net, count, log):
+    """The tight lots of a right log that is not whole, by going through all lots."""
+    rest = count - 1 - len(log) // len(net.others)
+    taken = [name for _, name in log]
+    return [lot for lot in plain_lots(net) if len(plain_out(net, lot, taken)) == rest]
+
+
+def plain_free(net, count, log):
+    """The lines that may be taken behind a right log, by going through all lots."""
+    return [line for line in net.line_names if plain_why(net, count, log, line)[0] == "free"]
+
+
+def random_log(net, count, seed):
+    """A whole right log whose lines are taken by chance, by going through all lots."""
+    chance = random.Random(seed)
+    log = []
+    while len(log) < count * len(net.others):
+        log.append((len(log) // len(net.others), chance.choice(plain_free(net, count, log))))
+    return log
 
 
 def plain_arrives(net, ahead, house):
@@ -172,7 +228,9 @@ def unharmed(test, call, *arguments, **more):
 
 
 def plain(value):
-    """A net as its parts, and every other value as it is."""
+    """An object of the program as its parts, and every other value as it is."""
     if isinstance(value, Net):
         return (value.home, value.houses, value.lines)
+    if isinstance(value, Table):
+        return (value.marks, value.entries)
     return value

@@ -169,7 +169,12 @@ class CodeTest(unittest.TestCase):
                           "greatest_least_lot", "strength", "weakest_lot", "more_ways", "unbroken_ways"],
                 "trees": ["is_tree", "is_grove", "first_bad_tree", "tree_line", "tree_way", "depths", "depth_sum",
                           "below"],
-                "groves": ["all_trees", "count_trees", "all_groves"]}
+                "groves": ["all_trees", "count_trees", "all_groves"],
+                "buildlog": ["is_log", "log_state", "why_not", "takeable", "tight_lots", "leading_lot",
+                             "leading_lines"],
+                "builder": ["finish_log", "build", "is_build", "grove_of_log", "log_of_grove"],
+                "tables": ["Table", "write_table", "read_table"],
+                "marks": ["table_fault", "holes", "differences", "table_of", "grove_of_table", "is_grove_table"]}
         for module, names in told.items():
             self.assertEqual([name for name in names if name not in self.defined(PACKAGE / f"{module}.py")], [])
 
