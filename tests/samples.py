@@ -4,7 +4,9 @@ import copy
 import itertools
 import random
 
+from markshome.diary import Diary
 from markshome.nets import Net
+from markshome.runs import Run
 from markshome.tables import Table
 
 FORK_LINES = [("ac", "a", "c"), ("ah", "a", "h"), ("bc", "b", "c"), ("bh", "b", "h"), ("ca", "c", "a"),
@@ -71,6 +73,23 @@ def strong_net(seed, others, count, extra=0):
         ends += [(house, chance.choice(order[:place] or ["h"])) for place, house in enumerate(order)]
     chance.shuffle(ends)
     return Net("h", names, [(f"l{k}", tail, head) for k, (tail, head) in enumerate(ends)])
+
+
+def random_table(net, seed, wrong=0.0):
+    """A table over the houses of a net, with holes; with this chance a line or house is a wrong one."""
+    chance = random.Random(seed)
+    marks = chance.randint(0, 4)
+    rows = []
+    for house in net.others:
+        for mark in range(marks):
+            lines = net.out(house)
+            if chance.random() < wrong:
+                lines = net.line_names + ["zz"]
+            if lines and chance.random() < 0.8:
+                rows.append((house, mark, chance.choice(lines), chance.choice([None, *range(marks)])))
+    if marks and chance.random() < wrong:
+        rows.append((chance.choice(["zz", net.home]), 0, chance.choice(net.line_names + ["zz"]), None))
+    return Table(marks, chance.sample(rows, len(rows)))
 
 
 def remade(net):
@@ -178,6 +197,75 @@ def plain_arrives(net, ahead, house):
     return False
 
 
+def plain_run(net, table, start, mark, broken=()):
+    """The paper of a run, move by move as the definition says."""
+    ends = {name: head for name, _, head in net.lines}
+    rows = {(house, at): (line, after) for house, at, line, after in table.entries}
+    moves = []
+    met = [(start, mark)]
+    house, at = start, mark
+    while house != net.home:
+        line, after = rows.get((house, at), (None, None))
+        if line is None or (line in broken and after is None):
+            moves.append(("stuck", line, house, at))
+            return (start, mark, "stuck", moves)
+        if line in broken:
+            at = after
+            moves.append(("turn", line, house, at))
+        else:
+            house = ends[line]
+            moves.append(("pass", line, house, at))
+        if house != net.home and (house, at) in met:
+            return (start, mark, "round", moves)
+        met.append((house, at))
+    return (start, mark, "home", moves)
+
+
+def plain_broken(events, moment):
+    """The lines that are broken after the events of the moment, by going through the events."""
+    broken = []
+    for at, deed, line in events:
+        if at <= moment and deed == "break" and line not in broken:
+            broken.append(line)
+        if at <= moment and deed == "mend" and line in broken:
+            broken.remove(line)
+    return sorted(broken)
+
+
+def plain_timed_run(net, table, start, mark, events, sent):
+    """The paper of a run in time, moment by moment as the definition says."""
+    ends = {name: head for name, _, head in net.lines}
+    rows = {(house, at): (line, after) for house, at, line, after in table.entries}
+    last = max([event[0] for event in events], default=0)
+    moves = []
+    visits = [(sent, (start, mark))]
+    house, at = start, mark
+    moment = sent
+    while house != net.home:
+        broken = plain_broken(events, moment)
+        line, after = rows.get((house, at), (None, None))
+        if line is None or (line in broken and after is None):
+            moves.append(("stuck", line, house, at))
+            return (start, mark, "stuck", moves)
+        if line in broken:
+            at = after
+            moves.append(("turn", line, house, at))
+        else:
+            house = ends[line]
+            moves.append(("pass", line, house, at))
+        moment += 1
+        if house != net.home and any(state == (house, at) and visit >= last for visit, state in visits):
+            return (start, mark, "round", moves)
+        visits.append((moment, (house, at)))
+    return (start, mark, "home", moves)
+
+
+def plain_damages(net, most):
+    """All damages of at most so many lines, by going through the choices of a yes or no for each line."""
+    found = [list(chosen) for size in range(most + 1) for chosen in itertools.combinations(net.line_names, size)]
+    return sorted(found, key=lambda damage: (len(damage), damage))
+
+
 def parts(value):
     """All lists and dicts in a value, at every level."""
     found = []
@@ -233,4 +321,8 @@ def plain(value):
         return (value.home, value.houses, value.lines)
     if isinstance(value, Table):
         return (value.marks, value.entries)
+    if isinstance(value, Run):
+        return value.paper
+    if isinstance(value, Diary):
+        return value.events
     return value

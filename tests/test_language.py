@@ -174,7 +174,14 @@ class CodeTest(unittest.TestCase):
                              "leading_lines"],
                 "builder": ["finish_log", "build", "is_build", "grove_of_log", "log_of_grove"],
                 "tables": ["Table", "write_table", "read_table"],
-                "marks": ["table_fault", "holes", "differences", "table_of", "grove_of_table", "is_grove_table"]}
+                "marks": ["table_fault", "holes", "differences", "table_of", "grove_of_table", "is_grove_table"],
+                "runs": ["step", "Run", "run_letter", "is_run", "move_bound", "lost"],
+                "stops": ["all_damages", "first_stop", "holds", "fewest_stop", "is_stop", "starving", "longest",
+                          "cut_damage", "is_cut", "thin_stop"],
+                "diary": ["Diary", "timed_run", "is_timed_run", "ever_broken", "arrival", "calm_diary", "shifted"],
+                "post": ["Post"],
+                "pairs": ["is_pairing", "two_way_net", "with_partners", "pair_limit", "all_pair_damages",
+                          "first_pair_stop"]}
         for module, names in told.items():
             self.assertEqual([name for name in names if name not in self.defined(PACKAGE / f"{module}.py")], [])
 

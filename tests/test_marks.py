@@ -1,5 +1,4 @@
 import copy
-import random
 import unittest
 
 from markshome.builder import build
@@ -9,28 +8,12 @@ from markshome.marks import differences, grove_of_table, holes, is_grove_table, 
 from markshome.nets import Net
 from markshome.tables import Table
 from markshome.trees import is_grove, line_from
-from samples import KINDS, alone, chain, fork, mixed, raised, random_net, remade, strong_net, unharmed
+from samples import (KINDS, alone, chain, fork, mixed, raised, random_net, random_table, remade, strong_net,
+                     unharmed)
 
 GROVE = [["ah", "bc", "ca"], ["ac", "bh", "cb"]]
 ROWS = [("a", 0, "ah", 1), ("a", 1, "ac", None), ("b", 0, "bc", 1), ("b", 1, "bh", None), ("c", 0, "ca", 1),
         ("c", 1, "cb", None)]
-
-
-def random_table(net, seed, wrong=0.0):
-    """A table over the houses of a net, with holes; with this chance a line or house is a wrong one."""
-    chance = random.Random(seed)
-    marks = chance.randint(0, 4)
-    rows = []
-    for house in net.others:
-        for mark in range(marks):
-            lines = net.out(house)
-            if chance.random() < wrong:
-                lines = net.line_names + ["zz"]
-            if lines and chance.random() < 0.8:
-                rows.append((house, mark, chance.choice(lines), chance.choice([None, *range(marks)])))
-    if marks and chance.random() < wrong:
-        rows.append((chance.choice(["zz", net.home]), 0, chance.choice(net.line_names + ["zz"]), None))
-    return Table(marks, chance.sample(rows, len(rows)))
 
 
 def groves():
