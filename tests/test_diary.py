@@ -133,7 +133,9 @@ class BrokenAtTest(unittest.TestCase):
         for moment, damage in [(0, ["x"]), (2, ["x"]), (3, ["y"]), (6, ["y"]), (7, ["y"]), (98, ["y"]),
                                (99, ["x", "y"]), (100, ["x", "y"]), (999, ["x", "y"])]:
             self.assertEqual(diary.broken_at(moment), damage)
-        self.assertEqual([Diary().broken_at(moment) for moment in (0, 999)], [[], []])
+        self.assertEqual([diary.broken_at(moment) for moment in range(1000)],
+                         [["x"]] * 3 + [["y"]] * 96 + [["x", "y"]] * 901)
+        self.assertEqual([Diary().broken_at(moment) for moment in range(1000)], [[]] * 1000)
 
     def test_events_without_effect(self):
         diary = Diary([(0, "mend", "x"), (1, "break", "x"), (2, "break", "x"), (3, "mend", "x"), (4, "mend", "x")])

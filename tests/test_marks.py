@@ -2,10 +2,13 @@ import copy
 import unittest
 
 from markshome.builder import build
+from markshome.diary import Diary
 from markshome.errors import BadTable
 from markshome.groves import all_groves
 from markshome.marks import differences, grove_of_table, holes, is_grove_table, table_fault, table_of
 from markshome.nets import Net
+from markshome.post import Post
+from markshome.runs import Run
 from markshome.tables import Table
 from markshome.trees import is_grove, line_from
 from samples import (KINDS, alone, chain, fork, mixed, raised, random_net, random_table, remade, strong_net,
@@ -197,7 +200,8 @@ class GroveOfTableTest(unittest.TestCase):
         self.assertGreater(met, 5)
 
     def test_every_kind(self):
-        for value in KINDS + [ROWS, (2, ROWS), GROVE, fork(), BadTable("a", 0), Table]:
+        others = [fork(), BadTable("a", 0), Run("h", 0, "home", []), Diary(), Post(fork(), Table(2, ROWS))]
+        for value in KINDS + [ROWS, (2, ROWS), GROVE] + others:
             for net in (fork(), alone()):
                 self.assertIs(is_grove_table(net, value), False, repr(value))
 

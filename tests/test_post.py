@@ -109,11 +109,15 @@ class SendTest(unittest.TestCase):
         self.assertEqual(raised(post.send, "new", "a"), ("TooMany", "letters", 13, 12))
         self.assertEqual(told(post, [f"m{k}" for k in range(12)]), before)
         post = Post(fork(), TABLE)
+        post.tick()
         post.send("m", "h")
+        post.tick()
+        before = told(post, ["m"])
         self.assertEqual(raised(post.send, "m", "z"), ("Duplicate", "m"))
         self.assertEqual(raised(post.send, "m", "a"), ("Duplicate", "m"))
         for house in ("z", "ah", "", "A"):
             self.assertEqual(raised(post.send, "n", house), ("UnknownHouse", house))
+        self.assertEqual(told(post, ["m"]), before)
         self.assertEqual(raised(post.spot, "n"), ("Unlike", "letter"))
         self.assertIsNone(post.send("n", "a"))
 
