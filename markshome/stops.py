@@ -13,10 +13,15 @@ from markshome.runs import carried, lost_houses
 from markshome.ways import cut_off
 
 
+def selection_count(many, most):
+    """The number of selections of at most `most` of so many things."""
+    return sum([comb(many, size) for size in range(most + 1)])
+
+
 def check_damages(many, most):
     """Raise the first error of a search through all selections of at most `most` of so many things."""
     check_range("most", most, 0, MOST_LINES)
-    check_many("damages", sum([comb(many, size) for size in range(most + 1)]), MOST_DAMAGES)
+    check_many("damages", selection_count(many, most), MOST_DAMAGES)
 
 
 def selections(things, most):

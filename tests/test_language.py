@@ -181,7 +181,14 @@ class CodeTest(unittest.TestCase):
                 "diary": ["Diary", "timed_run", "is_timed_run", "ever_broken", "arrival", "calm_diary", "shifted"],
                 "post": ["Post"],
                 "pairs": ["is_pairing", "two_way_net", "with_partners", "pair_limit", "all_pair_damages",
-                          "first_pair_stop"]}
+                          "first_pair_stop"],
+                "parted": ["part_houses", "house_ways", "house_cut", "is_house_ways", "is_house_cut",
+                           "gather_homes"],
+                "fewmarks": ["least_marks", "is_order", "is_ring", "order_or_ring", "is_rows", "full_rows",
+                             "row_run", "rows_stop", "find_rows", "fork_net"],
+                "loads": ["detour", "worst_detour", "loads", "busiest", "tree_loads"],
+                "changes": ["put_line", "take_line", "exchanges", "exchange", "swaps", "swap", "all_depths",
+                            "shorten", "right_start", "lead_log"]}
         for module, names in told.items():
             self.assertEqual([name for name in names if name not in self.defined(PACKAGE / f"{module}.py")], [])
 
