@@ -79,11 +79,15 @@ def crossing(net, first, second):
     return (len(lines_out(net, first)), len(lines_out(net, second)), inner, outer, len(across))
 
 
+def lots_among(names):
+    """Every lot of these houses, which are ascending: fewer houses first, then ascending."""
+    return [list(lot) for size in range(1, len(names) + 1) for lot in combinations(names, size)]
+
+
 def all_lots(net):
     """Every lot: fewer houses first, then ascending."""
     check_lot_houses(net)
-    names = net.others
-    return [list(lot) for size in range(1, len(names) + 1) for lot in combinations(names, size)]
+    return lots_among(net.others)
 
 
 def plain_strength(net):

@@ -20,7 +20,7 @@ BARRED = re.compile(r"\b(type|typing|typing_extensions|enum|Enum|IntEnum|StrEnum
                     r"contextmanager")
 UNUSED = {"register", "mro", "elements", "open", "input", "law", "version_info", "with_traceback", "add_note"}
 STATEMENTS = (ast.Assign, ast.AugAssign, ast.If, ast.While, ast.For, ast.Return, ast.Break, ast.Continue, ast.Pass,
-              ast.Raise, ast.Expr, ast.FunctionDef, ast.ClassDef, ast.ImportFrom)
+              ast.Raise, ast.Try, ast.Expr, ast.FunctionDef, ast.ClassDef, ast.ImportFrom)
 
 
 def nodes(path, kind):
@@ -114,6 +114,14 @@ class CodeTest(unittest.TestCase):
                     if isinstance(sign, (ast.Is, ast.IsNot)):
                         self.assertIsInstance(right, ast.Constant)
 
+    def test_errors_that_are_caught(self):
+        own = self.defined(PACKAGE / "errors.py")
+        for path in FILES:
+            for node in nodes(path, ast.Try):
+                self.assertEqual(node.finalbody, [], path.name)
+                for handler in node.handlers:
+                    self.assertIn(handler.type.id, own, path.name)
+
     def test_builtins(self):
         for path in FILES:
             for node in nodes(path, ast.Name):
@@ -159,38 +167,6 @@ class CodeTest(unittest.TestCase):
             for node in nodes(path, (ast.FunctionDef, ast.ClassDef)):
                 for mark in node.decorator_list:
                     self.assertEqual(ast.unparse(mark), "property")
-
-    def test_the_interface_stands_in_its_files(self):
-        told = {"nets": ["Net", "between"], "names": ["is_name", "ascending"], "nettext": ["write_net", "read_net"],
-                "lots": ["is_lot", "lot_of", "lines_out", "lines_into", "common_part", "joined", "crossing",
-                         "all_lots", "plain_strength", "least_lots", "weak_lots"],
-                "ways": ["is_way", "is_ways", "way_houses", "shortest_way", "distance", "home_side", "cut_off"],
-                "flows": ["most_ways", "is_ways_paper", "way_count", "has_ways", "smallest_least_lot",
-                          "greatest_least_lot", "strength", "weakest_lot", "more_ways", "unbroken_ways"],
-                "trees": ["is_tree", "is_grove", "first_bad_tree", "tree_line", "tree_way", "depths", "depth_sum",
-                          "below"],
-                "groves": ["all_trees", "count_trees", "all_groves"],
-                "buildlog": ["is_log", "log_state", "why_not", "takeable", "tight_lots", "leading_lot",
-                             "leading_lines"],
-                "builder": ["finish_log", "build", "is_build", "grove_of_log", "log_of_grove"],
-                "tables": ["Table", "write_table", "read_table"],
-                "marks": ["table_fault", "holes", "differences", "table_of", "grove_of_table", "is_grove_table"],
-                "runs": ["step", "Run", "run_letter", "is_run", "move_bound", "lost"],
-                "stops": ["all_damages", "first_stop", "holds", "fewest_stop", "is_stop", "starving", "longest",
-                          "cut_damage", "is_cut", "thin_stop"],
-                "diary": ["Diary", "timed_run", "is_timed_run", "ever_broken", "arrival", "calm_diary", "shifted"],
-                "post": ["Post"],
-                "pairs": ["is_pairing", "two_way_net", "with_partners", "pair_limit", "all_pair_damages",
-                          "first_pair_stop"],
-                "parted": ["part_houses", "house_ways", "house_cut", "is_house_ways", "is_house_cut",
-                           "gather_homes"],
-                "fewmarks": ["least_marks", "is_order", "is_ring", "order_or_ring", "is_rows", "full_rows",
-                             "row_run", "rows_stop", "find_rows", "fork_net"],
-                "loads": ["detour", "worst_detour", "loads", "busiest", "tree_loads"],
-                "changes": ["put_line", "take_line", "exchanges", "exchange", "swaps", "swap", "all_depths",
-                            "shorten", "right_start", "lead_log"]}
-        for module, names in told.items():
-            self.assertEqual([name for name in names if name not in self.defined(PACKAGE / f"{module}.py")], [])
 
 
 if __name__ == "__main__":
