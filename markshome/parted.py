@@ -1,6 +1,6 @@
 """Parted nets, ways without a common house, house cuts, and several homes made one."""
 
-from markshome.checks import check_houses, check_many, check_names, check_not_home, check_repeats
+from markshome.checks import check_houses, check_many, check_not_home, check_repeats
 from markshome.errors import BadName, Unlike
 from markshome.flows import most_ways, smallest_least_lot
 from markshome.lots import is_lot, lines_out

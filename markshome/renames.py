@@ -95,8 +95,8 @@ def turned(net, renaming):
 
 def chained(net, first, second):
     """The renaming of the net that has the effect of the first and then the second one."""
-    check_renaming(net, first)
-    if not is_renaming(rename_net(net, first), second):
+    renamed = rename_net(net, first)
+    if not is_renaming(renamed, second):
         raise Unlike("second")
     return ({house: second[0][first[0][house]] for house in first[0]},
             {line: second[1][first[1][line]] for line in first[1]})

@@ -30,7 +30,7 @@ def row_right(words):
     """Which words of a row are right."""
     if words[0] not in FORMS:
         return [False]
-    forms = list(FORMS[words[0]])
+    forms = FORMS[words[0]]
     return [True] + [word_right(form, word_at(words, index)) for index, form in enumerate(forms, start=1)]
 
 
@@ -38,7 +38,7 @@ def read_row(text):
     """The tuple of the words of a row, with numbers as integers. Raises BadText for the first fault."""
     words = text.split(" ")
     check_row(1, words, row_right(words))
-    forms = list(FORMS[words[0]])
+    forms = FORMS[words[0]]
     return tuple(words[:1] + [word if form == "name" else int(word) for form, word in zip(forms, words[1:])])
 
 
@@ -53,7 +53,7 @@ def is_row(words):
     """True if the tuple of texts and integers is that of a row."""
     if words == () or words[0] not in FORMS:
         return False
-    forms = list(FORMS[words[0]])
+    forms = FORMS[words[0]]
     if len(words) != 1 + len(forms):
         return False
     return all([value_right(form, value) for form, value in zip(forms, words[1:])])

@@ -1,7 +1,7 @@
 """Tables: for each house and mark a line, and the mark to take if that line is broken."""
 
 from markshome.checks import check_many, check_names, check_range
-from markshome.errors import BadTable, OutOfRange
+from markshome.errors import BadTable
 from markshome.names import MOST_TREES, is_name
 from markshome.nettext import check_row, word_at
 

@@ -1,8 +1,8 @@
 """How many lines must be put in so that so many trees exist, and from which houses."""
 
-from markshome.checks import check_count, check_many, is_number
+from markshome.checks import check_count, is_number
 from markshome.lots import common_part, is_lot, joined, lines_out, lots_among
-from markshome.names import MOST_LINES, ascending
+from markshome.names import ascending
 from markshome.nets import Net
 
 
@@ -41,7 +41,7 @@ def wants(net, count):
             numbers[house] = number
             # This lot now has just enough. Joined with another such lot that shares a house, it still has.
             lots = put_beside(lots, asking[missing.index(number)])
-    return ([(house, numbers[house]) for house in sorted(list(numbers))], lots)
+    return (list(numbers.items()), lots)
 
 
 def is_want(net, value):
@@ -93,9 +93,8 @@ def fresh_names(net, many):
 
 
 def strengthen(net, count):
-    """The net with the new lines that are wanted for so many trees."""
+    """The net with the new lines that are wanted for so many trees. Raises TooMany if it has no room for them."""
     wanted, _ = wants(net, count)
     tails = [house for house, number in wanted for _ in range(number)]
-    check_many("lines", len(net.line_names) + len(tails), MOST_LINES)
     new = [(name, tail, net.home) for name, tail in zip(fresh_names(net, len(tails)), tails)]
     return Net(net.home, net.others, net.lines + new)

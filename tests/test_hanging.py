@@ -134,6 +134,9 @@ class HangGroveTest(unittest.TestCase):
     def test_small(self):
         self.assertEqual(hang_grove(fork(), TREES, small_part(), [["xp", "yx"], ["xp2", "yp"]]),
                          [["ah", "bc", "ca", "xp", "yx"], ["ac", "bh", "cb", "xp2", "yp"]])
+        mixed_up = Net("p", ["y"], [("az", "y", "p"), ("bb", "y", "p")])
+        self.assertEqual(hang_grove(fork(), TREES, mixed_up, [["bb"], ["az"]]),
+                         [["ah", "bb", "bc", "ca"], ["ac", "az", "bh", "cb"]])
         self.assertEqual(hang_grove(fork(), [], small_part(), []), [])
         self.assertEqual(hang_grove(Net("h"), [[], []], Net("h"), [[], []]), [[], []])
         self.assertEqual(hang_grove(fork(), TREES, Net("p"), [[], []]), TREES)

@@ -86,6 +86,11 @@ class CodeTest(unittest.TestCase):
                         self.assertEqual(package, "markshome")
                         self.assertIn(alias.name, self.defined(PACKAGE / f"{module}.py"), path.name)
 
+    def test_every_import_is_used(self):
+        for path in FILES:
+            taken = {alias.name for node in nodes(path, ast.ImportFrom) for alias in node.names}
+            self.assertEqual(taken - {node.id for node in nodes(path, ast.Name)}, set(), path.name)
+
     def defined(self, path):
         body = ast.parse(path.read_text()).body
         names = [node.name for node in body if isinstance(node, (ast.FunctionDef, ast.ClassDef))]

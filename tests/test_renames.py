@@ -117,7 +117,8 @@ class UnlikeTest(unittest.TestCase):
 class RenameTest(unittest.TestCase):
     def test_net(self):
         self.assertEqual(rename_net(fork(), RENAMING), Net("a", ["y", "x", "h"], [
-            ("l6", "y", "h"), ("l5", "y", "a"), ("l4", "x", "h"), ("l3", "x", "a"), ("ah", "h", "y"), ("l1", "h", "x")]))
+            ("l6", "y", "h"), ("l5", "y", "a"), ("l4", "x", "h"), ("l3", "x", "a"), ("ah", "h", "y"),
+            ("l1", "h", "x")]))
         for seed in range(40):
             net = random_net(seed)
             renaming = some_renaming(net, seed)
@@ -354,7 +355,8 @@ class FreshTest(unittest.TestCase):
                 self.assertEqual(unharmed(self, rename_run, net, run, renaming), rename_run(again, hand, other))
             small = random_net(seed, 3, 8)
             changed = plain_renamed(small, some_renaming(small, seed))
-            self.assertEqual(unharmed(self, find_renaming, small, changed), find_renaming(remade(small), remade(changed)))
+            found = unharmed(self, find_renaming, small, changed)
+            self.assertEqual(found, find_renaming(remade(small), remade(changed)))
         self.assertIsNone(unharmed(self, find_renaming, mixed(), fork()))
 
 

@@ -4,7 +4,6 @@ import unittest
 
 from markshome.builder import build
 from markshome.marks import holes, table_of
-from markshome.nets import Net
 from markshome.runs import Run, is_run, lost, move_bound, run_letter, step
 from markshome.tables import Table
 from samples import (KINDS, alone, chain, fork, mixed, parts, plain_damages, plain_run, plain_strength, raised,

@@ -154,6 +154,15 @@ class IsWantsTest(unittest.TestCase):
         self.assertIs(is_wants(net, 1, ([], [["a"], ["b"]])), False)
         self.assertIs(is_wants(net, 1, ([("b", 1)], [["b"]])), True)
 
+    def test_numbers_that_are_not_greater_than_0(self):
+        self.assertIs(is_wants(fork(), 2, ([], [])), True)
+        for wanted in ([("a", 0)], [("a", False)], [("a", 0), ("b", 0)], [("c", -1)]):
+            self.assertIs(is_wants(fork(), 2, (wanted, [])), False)
+        # But for the negative number, every lot would have two lines out.
+        net = Net("h", ["a", "b"], [("p", "a", "h"), ("q", "a", "h"), ("r", "a", "h"), ("s", "b", "h")])
+        self.assertIs(is_wants(net, 2, ([("a", -1), ("b", 1)], [])), False)
+        self.assertIs(is_wants(net, 2, ([("b", 1)], [["b"]])), True)
+
     def test_other_numbers_that_are_as_few(self):
         net = Net("h", ["a", "b"], [("ab", "a", "b"), ("ba", "b", "a")])
         for wanted in ([("a", 1)], [("b", 1)]):

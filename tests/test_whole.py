@@ -25,7 +25,7 @@ from markshome.stops import first_stop, holds, is_stop, starving
 from markshome.tables import read_table, write_table
 from markshome.trees import is_grove
 from markshome.wanting import strengthen, wants
-from samples import FORK_LINES, fork, plain_damages, plain_strength, random_log, random_net, strong_net
+from samples import FORK_LINES, plain_damages, plain_strength, random_log, random_net, strong_net
 
 # The interface: for each module its functions and classes with their parameters.
 INTERFACE = {
@@ -108,7 +108,8 @@ METHODS = {
 PROPERTIES = [
     (lambda: Net("h"), "home houses others lines line_names"),
     (lambda: table_of(Net("h"), []), "marks entries"),
-    (lambda: run_letter(Net("h"), table_of(Net("h"), []), "h"), "start mark end moves paper steps turns met places last"),
+    (lambda: run_letter(Net("h"), table_of(Net("h"), []), "h"),
+     "start mark end moves paper steps turns met places last"),
     (lambda: Diary(), "events last"),
     (lambda: importlib.import_module("markshome.post").Post(Net("h"), table_of(Net("h"), [])),
      "moment damage diary settled"),
